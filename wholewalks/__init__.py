@@ -1,0 +1,1 @@
+"""Wholewalks: what can be done by walking rows whole."""

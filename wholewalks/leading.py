@@ -1,0 +1,43 @@
+"""The events of programs, beside those of plans."""
+
+from wholewalks.checks import need_many
+from wholewalks.contents import need_contents
+from wholewalks.errors import OtherPlan
+from wholewalks.plans import Plan
+from wholewalks.programs import Program
+from wholewalks.running import events
+from wholewalks.walking import Walking, led_events
+
+
+def program_events(program, contents, many):
+    """The first so many events of a program on contents, all if they are fewer."""
+    return events_led(program, contents, many, False)
+
+
+def once_events(program, contents, many):
+    """The same while each row can be walked once only."""
+    return events_led(program, contents, many, True)
+
+
+def events_led(program, contents, many, once):
+    """The first so many events of a program, led once or not."""
+    need_contents(program, contents)
+    need_many(many)
+    return led_events(Walking(program, contents, once), many)
+
+
+def held(plan, program, contents, many):
+    """The first place at which the events of both are unlike, with these; None if the first so many are the same."""
+    if not isinstance(plan, Plan) or not isinstance(program, Program):
+        raise OtherPlan()
+    if plan.rows != program.rows or plan.letters != program.letters:
+        raise OtherPlan()
+    need_contents(plan, contents)
+    need_many(many)
+    ones = events(plan, contents, many)
+    others = program_events(program, contents, many)
+    # The last event of either is none that the other has before: so neither list is a mere beginning of the other.
+    for at in range(min(len(ones), len(others))):
+        if ones[at] != others[at]:
+            return (at, ones[at], others[at])
+    return None

@@ -1,0 +1,140 @@
+"""A run of a program, led deed by deed, and how it is seen that no more events come."""
+
+from wholewalks.contents import sign_at
+from wholewalks.rounds import Turn
+from wholewalks.standings import NEXTS
+
+ENDS = ("stop", "none", "deep", "again", "idle")
+IDLE = ("idle",)
+
+
+class Walking:
+    """A run of a program on contents.
+
+    self.walks has for each hand the pairs (row, place) of its open walks, the
+    outermost first; self.far tells for each row at how many of its places a
+    walk has looked: they are the first ones, as each walk goes from the first on.
+    """
+
+    def __init__(self, program, contents, once):
+        self.table = program.table
+        self.dealing = program.dealing
+        self.depth = program.depth
+        self.contents = contents
+        self.once = once
+        self.standing = 0
+        self.walks = [[] for _ in range(max(program.dealing) + 1)]
+        self.far = [0] * program.rows
+
+    def state(self):
+        """What tells, beside the standing, how the run goes on."""
+        return [list(walks) for walks in self.walks]
+
+    def deed(self):
+        """Does what the standing tells, and returns its event, None if it has none."""
+        item = self.table[self.standing]
+        kind = item[0]
+        if kind == "begin":
+            return self.begin(item[1], item[2])
+        if kind == "on":
+            return self.go_on(item[1], item[2])
+        if kind == "leave":
+            return self.leave(item[1], item[2])
+        if kind == "say":
+            self.standing = item[2]
+            return ("say", item[1])
+        return item
+
+    def begin(self, row, nexts):
+        """Begins a walk of a row."""
+        hand = self.dealing[row]
+        if self.once and self.far[row] > 0:
+            return ("again", row)
+        if len(self.walks[hand]) == self.depth:
+            return ("deep", hand)
+        return self.look(hand, row, 0, nexts)
+
+    def go_on(self, hand, nexts):
+        """The innermost open walk of a hand goes on."""
+        if len(self.walks[hand]) == 0:
+            return ("none", hand)
+        row, place = self.walks[hand].pop()
+        return self.look(hand, row, place + 1, nexts)
+
+    def leave(self, hand, standing):
+        """The innermost open walk of a hand is over."""
+        if len(self.walks[hand]) == 0:
+            return ("none", hand)
+        self.walks[hand].pop()
+        self.standing = standing
+        return None
+
+    def look(self, hand, row, place, nexts):
+        """Looks at a place, at which the walk is open from now on, unless the row has ended."""
+        sign = sign_at(self.contents[row], place)
+        if sign != "end":
+            self.walks[hand].append((row, place))
+        self.standing = nexts[NEXTS[sign]]
+        if place < self.far[row]:
+            return None
+        self.far[row] = place + 1
+        return ("look", row, sign)
+
+
+class Climb:
+    """Tells when a hand whose open walks may grow for ever comes to do what it did.
+
+    If its innermost walk stands as it stood, and was never left in between, the
+    walks further out were not asked: so it goes on likewise, were they as before or more.
+    """
+
+    def __init__(self, walking):
+        self.walking = walking
+        self.span = 1
+        self.put_mark()
+
+    def put_mark(self):
+        """Marks where the hand stands now."""
+        walks = self.walking.walks[0]
+        self.deeds = 0
+        self.standing = self.walking.standing
+        self.height = len(walks)
+        self.top = walks[-1:]
+
+    def is_round(self):
+        """Asked once behind each deed that has no event: whether it goes on so for ever."""
+        walks = self.walking.walks[0]
+        self.deeds += 1
+        if len(walks) < self.height:
+            self.put_mark()
+        elif self.walking.standing == self.standing and walks[-1:] == self.top:
+            return True
+        elif self.deeds == self.span:
+            self.span *= 2
+            self.put_mark()
+        return False
+
+
+def watch_over(walking):
+    """What tells, from now on up to the next event, whether none comes any more."""
+    if walking.depth is None:
+        return Climb(walking)
+    return Turn(walking)
+
+
+def led_events(walking, many):
+    """The first so many events from where a run stands, all if they are fewer."""
+    found = []
+    watch = None
+    while len(found) < many:
+        event = walking.deed()
+        if event is None and watch is None:
+            watch = watch_over(walking)
+        elif event is None and watch.is_round():
+            event = IDLE
+        if event is not None:
+            watch = None
+            found.append(event)
+            if event[0] in ENDS:
+                break
+    return found
