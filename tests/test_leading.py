@@ -176,6 +176,21 @@ class IdleTest(unittest.TestCase):
             table = tuple([("begin", 0, (at + 1, at + 1)) for at in range(many)]) + (("leave", 0, many),)
             self.assertEqual(program_events(Program(1, 1, (0,), None, table), (("", "a"),), 99), [("look", 0, "a"), ("none", 0)])
 
+    def test_a_pile_taken_down_before_the_round(self):
+        table = [("begin", 0, (at + 1, at + 1)) for at in range(500)] + [("leave", 0, at + 501) for at in range(500)]
+        table = table + [("begin", 0, (1001, 1001)), ("leave", 0, 1000)]
+        self.idle(Program(1, 1, (0,), None, tuple(table)), (("", "a"),), [("look", 0, "a")])
+
+    def test_what_goes_on_below_is_no_round(self):
+        # At each letter of row 1 walks of row 0 are begun and left: these stand as they stood, the walk below goes on.
+        table = (("begin", 1, (1, 9)), ("on", 0, (1, 2)), ("begin", 1, (3, 9)), ("begin", 0, (4, 9)), ("begin", 0, (5, 9)),
+                 ("leave", 0, 6), ("leave", 0, 7), ("on", 0, (3, 8)), ("say", "x", 9), STOP)
+        for depth in (3, None):
+            program = Program(2, 1, (0, 0), depth, table)
+            for many in (1, 2, 30, 60):
+                self.assertEqual(program_events(program, (("", "a"), ("a" * many, "")), 99), [("look", 1, "a")] * many + [
+                    ("look", 1, "end"), ("look", 0, "a"), ("say", "x"), STOP])
+
     def test_behind_many_events(self):
         contents = (("a" * 60, ""), ("", "a"))
         # Each letter of row 0 has a word; row 1 is then looked at once, for ever.

@@ -44,7 +44,7 @@ def unlike_looks(labels, nexts, second):
     trail = [(0, second, None, 0)]
     at = 0
     while at < len(trail):
-        one, other, _, _ = trail[at]
+        one, other = trail[at][:2]
         if labels[one] != labels[other]:
             return looks_to(labels, trail, at)
         first_heap = heap_of(heaps, one)
@@ -68,7 +68,7 @@ def looks_to(labels, trail, at):
     """The looks that lead to a pair of the trail, in order."""
     looks = []
     while at is not None:
-        _, _, before, way = trail[at]
+        before, way = trail[at][2:]
         if before is not None and labels[trail[before][0]][0] == "look":
             looks.append((labels[trail[before][0]][1], way))
         at = before

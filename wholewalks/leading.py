@@ -32,11 +32,10 @@ def held(plan, program, contents, many):
         raise OtherPlan()
     if plan.rows != program.rows or plan.letters != program.letters:
         raise OtherPlan()
-    need_contents(plan, contents)
-    need_many(many)
     ones = events(plan, contents, many)
     others = program_events(program, contents, many)
-    # The last event of either is none that the other has before: so neither list is a mere beginning of the other.
+    # A list that is the shorter one ends with an event that the other can have at its own end alone:
+    # so lists that are not the same are unlike at a place that both have.
     for at in range(min(len(ones), len(others))):
         if ones[at] != others[at]:
             return (at, ones[at], others[at])
