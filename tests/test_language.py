@@ -19,6 +19,21 @@ INTERFACE = {
     "programs": "Program",
     "leading": "program_events once_events held",
     "depths": "depths followed",
+    "runs": "Run",
+    "scripts": "Script script_events",
+    "compiling": "compiled",
+    "scripttexts": "script_text read_script",
+    "pieces": "pieces web is_free stuck is_stuck",
+    "hands": "fewest_hands least_dealing need is_need",
+    "making": "made",
+    "strangers": "broken is_broken",
+    "once": ("crosses crossing is_crossing fewest_once least_once made_once broken_once is_broken_once"),
+}
+OF_CLASSES = {
+    "Plan": "__init__ __eq__",
+    "Program": "__init__ __eq__",
+    "Script": "__init__ __eq__",
+    "Run": "__init__ deed standing walks looked deeds back copy",
 }
 BUILTINS = set("len range enumerate zip min max sum abs sorted reversed int str bool list tuple dict set isinstance ord repr "
                "any all divmod super type ValueError".split())
@@ -146,6 +161,13 @@ class LanguageTest(unittest.TestCase):
             source = [source for source in self.sources if source.name == name + ".py"][0]
             for word in words.split():
                 self.assertIn(word, source.defined(), name)
+
+    def test_methods_stand_in_the_class_itself(self):
+        own = {node.name: [item.name for item in node.body if isinstance(item, ast.FunctionDef)]
+               for _, node, _ in self.each(ast.ClassDef)}
+        for name, words in OF_CLASSES.items():
+            for word in words.split():
+                self.assertIn(word, own[name], name)
 
     def test_functions(self):
         for source, node, where in self.each((ast.FunctionDef, ast.ClassDef)):

@@ -4,6 +4,8 @@ from wholewalks.errors import NoNumber
 
 LETTERS = "abc"
 ALPHABET = "abcdefghijklmnopqrstuvwxyz"
+DIGITS = "0123456789"
+MOST_FIGURES = 9
 MOST_EVENTS = 10000
 
 
@@ -22,6 +24,16 @@ def is_tuple_of(many, thing):
     return isinstance(thing, tuple) and len(thing) == many
 
 
+def is_same(told, thing):
+    """Whether a thing is this tuple of integers and strings, flags being no integers."""
+    if not is_tuple_of(len(told), thing):
+        return False
+    for one, other in zip(told, thing):
+        if not (type(one) is type(other) and one == other):
+            return False
+    return True
+
+
 def is_lettered(letters, thing):
     """Whether a thing is a string of the first so many letters alone."""
     return isinstance(thing, str) and thing.strip(LETTERS[:letters]) == ""
@@ -30,6 +42,13 @@ def is_lettered(letters, thing):
 def is_word(thing):
     """Whether a thing is a word that can be said."""
     return isinstance(thing, str) and 1 <= len(thing) <= 8 and thing.strip(ALPHABET) == ""
+
+
+def is_figures(text):
+    """Whether a string is a number as it stands in texts."""
+    if not 1 <= len(text) <= MOST_FIGURES or text.strip(DIGITS) != "":
+        return False
+    return text == "0" or text[0] != "0"
 
 
 def is_dealing(rows, thing):

@@ -21,13 +21,20 @@ def need_content(thing):
         raise NoContent()
 
 
-def need_contents(plan, thing):
-    """Raises NoContents unless a thing is contents of a plan, a program or a script."""
+def is_contents(plan, thing):
+    """Whether a thing is contents of a plan, a program or a script."""
     if not is_tuple_of(plan.rows, thing):
-        raise NoContents()
+        return False
     for content in thing:
         if not is_content_of(plan.letters, content):
-            raise NoContents()
+            return False
+    return True
+
+
+def need_contents(plan, thing):
+    """Raises NoContents unless a thing is contents of a plan, a program or a script."""
+    if not is_contents(plan, thing):
+        raise NoContents()
 
 
 def sign(content, place):
@@ -54,6 +61,14 @@ def least_place(content, place):
     if ring == "" or place < len(head):
         return place
     return len(head) + (place - len(head)) % len(ring)
+
+
+def letters_within(content, many):
+    """How many of the first so many places have letters."""
+    head, ring = content
+    if ring == "":
+        return min(len(head), many)
+    return many
 
 
 def same_signs(content, second):

@@ -1,6 +1,6 @@
 """How deep programs look into rows, and which rows their hands follow for ever."""
 
-from wholewalks.contents import least_place, need_contents
+from wholewalks.contents import least_place, letters_within, need_contents
 from wholewalks.errors import NoBound
 from wholewalks.rounds import Turn
 from wholewalks.walking import ENDS, Walking
@@ -17,21 +17,14 @@ class Winding(Walking):
 def depths(program, contents):
     """For each row how many letters are looked at in the whole run, None if ever more."""
     winding, rows = wound(program, contents)
-    return tuple([None if row in rows else letters_met(winding, row) for row in range(program.rows)])
+    found = [letters_within(content, far) for content, far in zip(contents, winding.far)]
+    return tuple([None if row in rows else many for row, many in enumerate(found)])
 
 
 def followed(program, contents):
     """For each hand the row of which it looks at ever more letters, None if there is none."""
     _, rows = wound(program, contents)
     return rows
-
-
-def letters_met(winding, row):
-    """At how many letters of a row a run has looked: the place behind the last letter is none."""
-    head, ring = winding.contents[row]
-    if ring == "":
-        return min(len(head), winding.far[row])
-    return winding.far[row]
 
 
 def wound(program, contents):

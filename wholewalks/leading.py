@@ -28,12 +28,22 @@ def events_led(program, contents, many, once):
 
 def held(plan, program, contents, many):
     """The first place at which the events of both are unlike, with these; None if the first so many are the same."""
+    need_program_for(plan, program)
+    return first_unlike(plan, program, contents, many, False)
+
+
+def need_program_for(plan, program):
+    """Raises OtherPlan unless both are what they are called, with as many rows and letters."""
     if not isinstance(plan, Plan) or not isinstance(program, Program):
         raise OtherPlan()
     if plan.rows != program.rows or plan.letters != program.letters:
         raise OtherPlan()
+
+
+def first_unlike(plan, program, contents, many, once):
+    """The same for a plan and a program that go together, the program being led once or not."""
     ones = events(plan, contents, many)
-    others = program_events(program, contents, many)
+    others = events_led(program, contents, many, once)
     # A list that is the shorter one ends with an event that the other can have at its own end alone:
     # so lists that are not the same are unlike at a place that both have.
     for at in range(min(len(ones), len(others))):

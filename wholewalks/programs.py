@@ -35,6 +35,17 @@ class Program:
                 and self.dealing == other.dealing and self.depth == other.depth and self.table == other.table)
 
 
+def unbounded_program(rows, letters, dealing, depth, table):
+    """The program of these whatever their sizes; they must surely make one."""
+    program = Program(1, 1, (0,), 1, (("stop",),))
+    program.rows = rows
+    program.letters = letters
+    program.dealing = dealing
+    program.depth = depth
+    program.table = table
+    return program
+
+
 def is_depth(hands, thing):
     """Whether a thing is a depth of a program of so many hands."""
     if thing is None:

@@ -17,7 +17,7 @@ class Walking:
     """
 
     def __init__(self, program, contents, once):
-        self.table = program.table
+        self.program = program
         self.dealing = program.dealing
         self.depth = program.depth
         self.contents = contents
@@ -30,9 +30,13 @@ class Walking:
         """What tells, beside the standing, how the run goes on."""
         return [list(walks) for walks in self.walks]
 
+    def item(self):
+        """What the standing tells."""
+        return self.program.table[self.standing]
+
     def deed(self):
         """Does what the standing tells, and returns its event, None if it has none."""
-        item = self.table[self.standing]
+        item = self.item()
         kind = item[0]
         if kind == "begin":
             return self.begin(item[1], item[2])
@@ -79,6 +83,46 @@ class Walking:
             return None
         self.far[row] = place + 1
         return ("look", row, sign)
+
+
+    def before(self):
+        """What the next deed may change, as it is now: the standing, and of one hand the innermost walk and its row."""
+        item = self.item()
+        if item[0] not in ("begin", "on", "leave"):
+            return (self.standing, None, 0, (), None, 0)
+        hand = item[1]
+        row = None
+        if item[0] == "begin":
+            row = item[1]
+            hand = self.dealing[row]
+        walks = self.walks[hand]
+        top = tuple(walks[-1:])
+        if row is None and top:
+            row = top[0][0]
+        far = 0
+        if row is not None:
+            far = self.far[row]
+        return (self.standing, hand, len(walks), top, row, far)
+
+    def put_back(self, before):
+        """Makes all what it was before a deed."""
+        standing, hand, height, top, row, far = before
+        self.standing = standing
+        if hand is not None:
+            walks = self.walks[hand]
+            while len(walks) > height - len(top):
+                walks.pop()
+            walks.extend(top)
+        if row is not None:
+            self.far[row] = far
+
+    def copied(self):
+        """Another run that stands where this one does."""
+        other = Walking(self.program, self.contents, self.once)
+        other.standing = self.standing
+        other.walks = [list(walks) for walks in self.walks]
+        other.far = list(self.far)
+        return other
 
 
 class Climb:
