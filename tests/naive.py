@@ -192,3 +192,143 @@ def letters_seen(program, contents, deeds):
         if sign(contents[row], place) != "end":
             found[row] += 1
     return found
+
+
+class Stopped(Exception):
+    """A script has stopped."""
+
+
+class Left(Exception):
+    """A leave goes out of an each; outward tells how many eaches more."""
+
+    def __init__(self, outward):
+        self.outward = outward
+
+
+class ScriptPlay:
+    """A script as the document tells it: each hand is a generator, which yields events, and hands over to others."""
+
+    def __init__(self, script, contents):
+        self.script, self.contents = script, contents
+        self.boxes = [0] * 4
+        self.seen = set()
+        self.hands = [self.own_block(block) for block in script.blocks]
+
+    def own_block(self, block):
+        yield from self.block(block)
+        yield STOP
+
+    def block(self, block):
+        for statement in block:
+            kind = statement[0]
+            if kind == "say":
+                yield ("say", statement[1])
+            elif kind == "set":
+                self.boxes[statement[1]] = statement[2]
+            elif kind == "if":
+                yield from self.block(statement[3] if self.boxes[statement[1]] == statement[2] else statement[4])
+            elif kind == "stop":
+                yield STOP
+            elif kind == "leave":
+                raise Left(statement[1])
+            elif kind == "over":
+                yield ("over", statement[1])
+            else:
+                try:
+                    yield from self.each(statement[1], statement[2], statement[3])
+                except Left as left:
+                    if left.outward > 1:
+                        raise Left(left.outward - 1)
+
+    def each(self, row, box, block):
+        place = 0
+        while True:
+            letter = sign(self.contents[row], place)
+            if (row, place) not in self.seen:
+                self.seen.add((row, place))
+                yield ("look", row, letter)
+            if letter == "end":
+                return
+            self.boxes[box] = LETTERS.index(letter)
+            yield from self.block(block)
+            place += 1
+
+    def events(self, many):
+        found, hand = [], 0
+        while len(found) < many:
+            event = next(self.hands[hand])
+            if event[0] == "over":
+                hand = event[1]
+                continue
+            found.append(event)
+            if event == STOP:
+                break
+        return found
+
+
+def script_events(script, contents, many):
+    """The first so many events of a script."""
+    return ScriptPlay(script, contents).events(many)
+
+
+def all_pieces(plan):
+    """The pieces of a plan, by what leads to what."""
+    known = all_phases(plan)
+    leads = {}
+    for phase in known:
+        found, queue = set(), [phase]
+        while queue:
+            for _, target in phase_steps(plan, queue.pop()):
+                if target not in found:
+                    found.add(target)
+                    queue.append(target)
+        leads[phase] = found
+    found = []
+    for phase in known:
+        if phase in leads[phase]:
+            piece = tuple([other for other in known if other in leads[phase] and phase in leads[other]])
+            rows = {plan.table[one[0]][1] for one in piece for letter, to in phase_steps(plan, one)
+                    if letter in tuple(LETTERS) and to in piece}
+            found.append((piece, tuple(sorted(rows))))
+    return sorted(set(found))
+
+
+def joined_rows(plan):
+    """The pairs of joined rows."""
+    return tuple(sorted({(r, s) for _, rows in all_pieces(plan) for r in rows for s in rows if r < s}))
+
+
+def dealings(rows):
+    """All dealings of so many rows, ascending."""
+    found = [()]
+    for _ in range(rows):
+        found = [dealing + (hand,) for dealing in found for hand in range(rows)]
+    return [dealing for dealing in found if set(dealing) == set(range(max(dealing) + 1))]
+
+
+def least_of_fewest(rows, pairs):
+    """The least dealing of so many rows to the fewest hands that keeps these pairs apart."""
+    fit = [dealing for dealing in dealings(rows) if all(dealing[r] != dealing[s] for r, s in pairs)]
+    fewest = min([max(dealing) for dealing in fit])
+    return [dealing for dealing in fit if max(dealing) == fewest][0]
+
+
+def crossed_rows(plan):
+    """The pairs of rows that cross: for each phase all orders of looks at two rows by turns, up to four, that lead to it."""
+    found = set()
+    for r in range(plan.rows):
+        for s in range(r + 1, plan.rows):
+            known, queue = {((0, ()), ())}, [((0, ()), ())]
+            while queue:
+                phase, order = queue.pop()
+                item = plan.table[phase[0]]
+                if item[0] == "look" and item[1] in (r, s) and item[1] not in phase[1] and order[-1:] != (item[1],):
+                    order = order + (item[1],)
+                if len(order) == 4:
+                    found.add((r, s))
+                    break
+                for _, target in phase_steps(plan, phase):
+                    if (target, order) not in known:
+                        known.add((target, order))
+                        queue.append((target, order))
+    return tuple(sorted(found))

@@ -2,9 +2,12 @@
 
 import random
 
-from wholewalks.errors import BadPlan, Idle, NoContent, WalkError
+from wholewalks.errors import BadPlan, BadScript, Idle, NoContent, WalkError
+from wholewalks.joining import behind
 from wholewalks.plans import Plan
 from wholewalks.programs import Program
+from wholewalks.runs import Run
+from wholewalks.scripts import Script
 
 STOP = ("stop",)
 LETTERS = "abc"
@@ -36,6 +39,7 @@ def odd_things():
         -1, -(10 ** 39), 10 ** 39 + 7, (-1,), (10 ** 39, 10 ** 39), 10 ** 40 - 1,
         nested((), 39, tuple), nested([], 39, list), nested("a", 40, tuple), tuple(range(9999)), list(range(9999)),
         "a" * 9999, T, P, NoContent(), BadPlan("rows"), Idle(((0, ()),)), WalkError, [T], (T, P), (P,),
+        Run(P, C), Script(1, 1, (0,), ((),)), (Run(P, D), 0), [[True, (T,)], {1: (2,)}], ("all", ()), ("case", 0, 1, 2, 3),
     ]
 
 
@@ -166,3 +170,97 @@ def lasting_program(rng, rows, letters, bound=True, most=10):
             table.append(STOP)
     depth = rng.randint(2, 6) if bound else None
     return Program(rows, letters, tuple(dealing), depth, tuple(table))
+
+
+def random_block(rng, dealing, hand, letters, most, deep=1, around=0, boxes=2, values=3):
+    """A block of a hand, by chance."""
+    rows = [row for row, other in enumerate(dealing) if other == hand]
+    block = []
+    for _ in range(rng.randint(0 if deep > 1 else 1, most)):
+        kind = rng.random()
+        if kind < 0.3 and deep < 5:
+            inner = random_block(rng, dealing, hand, letters, most, deep + 1, around + 1, boxes, values)
+            block.append(("each", rng.choice(rows), rng.randrange(boxes), inner))
+        elif kind < 0.5 and deep < 5:
+            inner = [random_block(rng, dealing, hand, letters, most - 1, deep + 1, around, boxes, values) for _ in range(2)]
+            block.append(("if", rng.randrange(boxes), rng.randrange(values), inner[0], inner[1]))
+        elif kind < 0.6:
+            block.append(("set", rng.randrange(boxes), rng.randrange(values)))
+        elif kind < 0.72 and around > 0:
+            block.append(("leave", rng.randint(1, around)))
+        elif kind < 0.86 and max(dealing) > 0:
+            block.append(("over", rng.choice([other for other in range(max(dealing) + 1) if other != hand])))
+        elif kind < 0.97:
+            block.append(("say", rng.choice(("x", "y", "z"))))
+        else:
+            block.append(STOP)
+    return tuple(block)
+
+
+def random_dealing(rng, rows, hands=None):
+    """A dealing of so many rows, by chance."""
+    hands = hands or rng.randint(1, rows)
+    dealing = list(range(hands)) + [rng.randrange(hands) for _ in range(rows - hands)]
+    rng.shuffle(dealing)
+    return tuple(dealing)
+
+
+def random_script(rng, rows=None, letters=None, hands=None, most=4):
+    """A script, by chance."""
+    while True:
+        some = rows or rng.randint(1, 3)
+        dealing = random_dealing(rng, some, hands)
+        many = letters or rng.randint(1, 3)
+        blocks = tuple([random_block(rng, dealing, hand, many, most) for hand in range(max(dealing) + 1)])
+        try:
+            return Script(some, many, dealing, blocks)
+        except BadScript:
+            pass
+
+
+def ladder_plan(rng, dealing, letters, rungs, words=True, full=False):
+    """A plan of rungs: each goes round over rows of unlike hands, of all if full, and on to the next by some letter or end."""
+    hands = max(dealing) + 1
+    firsts, lots = [], []
+    at = 0
+    for _ in range(rungs):
+        lot = [rng.choice([row for row, hand in enumerate(dealing) if hand == other])
+               for other in rng.sample(range(hands), hands if full else rng.randint(1, hands))]
+        firsts.append(at)
+        lots.append(lot)
+        at += len(lot) + (1 if words else 0)
+    firsts.append(at)
+    table = []
+    for number, lot in enumerate(lots):
+        for place, row in enumerate(lot):
+            here = firsts[number] + (1 if words else 0)
+            within = here + (place + 1) % len(lot)
+            onward = firsts[number + 1]
+            ways = [within] + [rng.choice((within, here, onward)) for _ in range(letters - 1)]
+            rng.shuffle(ways)
+            if place == 0 and words:
+                table.append(("say", rng.choice(("x", "y")), here))
+            table.append(("look", row, tuple(ways) + (rng.choice((onward, at)),)))
+    return Plan(len(dealing), letters, tuple(table) + (STOP,))
+
+
+def talking_plan(many):
+    """A plan of two rows that says x so many times, and stops; it is a returned one, of any size."""
+    table = tuple([("say", "x", at + 1) for at in range(min(many, 29))]) + (STOP,)
+    plan = Plan(2, 1, table)
+    if many > 29:
+        half = many // 2
+        plan = behind(talking_plan(half), talking_plan(many - half))
+    return plan
+
+
+def talking_program(many, dealing, depth, rest):
+    """A program of two rows that says x so many times, and then does as the rest tells, numbered from there on."""
+    moved = []
+    for item in rest:
+        if item[0] in ("begin", "on"):
+            item = item[:2] + (tuple([at + many for at in item[2]]),)
+        elif item[0] != "stop":
+            item = item[:2] + (item[2] + many,)
+        moved.append(item)
+    return Program(2, 1, dealing, depth, tuple([("say", "x", at + 1) for at in range(many)]) + tuple(moved))

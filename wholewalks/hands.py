@@ -42,9 +42,12 @@ def is_need(plan, number, thing):
 
 def is_split(plan, grouping, thing):
     """Whether a thing goes on with two unlike groups that are there and not joined."""
-    if not is_item("case", 5, thing) or not is_group(plan, grouping, thing[1]) or not is_group(plan, grouping, thing[2]):
+    if not is_item("case", 5, thing):
         return False
-    return thing[1] != thing[2] and not grouping.is_joined(thing[1], thing[2])
+    one, other = thing[1:3]
+    if not is_group(plan, grouping, one) or not is_group(plan, grouping, other):
+        return False
+    return one != other and not grouping.is_joined(one, other)
 
 
 def is_all(plan, grouping, number, thing):

@@ -5,8 +5,8 @@ from wholewalks.contents import need_contents
 from wholewalks.errors import OtherPlan
 from wholewalks.plans import Plan
 from wholewalks.programs import Program
-from wholewalks.running import events
-from wholewalks.walking import Walking, led_events
+from wholewalks.running import Course
+from wholewalks.walking import Telling, Walking, led_events
 
 
 def program_events(program, contents, many):
@@ -42,11 +42,16 @@ def need_program_for(plan, program):
 
 def first_unlike(plan, program, contents, many, once):
     """The same for a plan and a program that go together, the program being led once or not."""
-    ones = events(plan, contents, many)
-    others = events_led(program, contents, many, once)
-    # A list that is the shorter one ends with an event that the other can have at its own end alone:
-    # so lists that are not the same are unlike at a place that both have.
-    for at in range(min(len(ones), len(others))):
-        if ones[at] != others[at]:
-            return (at, ones[at], others[at])
+    need_contents(plan, contents)
+    need_many(many)
+    course = Course(plan, contents)
+    telling = Telling(Walking(program, contents, once))
+    for at in range(many):
+        one = course.event()
+        other = telling.event()
+        if one != other:
+            return (at, one, other)
+        # A stop is the only event by which both are over.
+        if telling.is_over:
+            return None
     return None

@@ -73,13 +73,17 @@ class Grouping:
                 return False
         return True
 
+    def are_tied(self, group, one, other):
+        """Whether a group is joined to both of two."""
+        return self.is_joined(group, one) and self.is_joined(group, other)
+
     def likely_pair(self):
         """Two groups that are not joined, and have as many groups as can be that are joined to both."""
         best = None
         most = -1
         for at, one in enumerate(self.groups):
             for other in self.groups[:at]:
-                many = len([group for group in self.groups if self.is_joined(group, one) and self.is_joined(group, other)])
+                many = len([group for group in self.groups if self.are_tied(group, one, other)])
                 if many > most and not self.is_joined(one, other):
                     most = many
                     best = (other, one)

@@ -71,7 +71,7 @@ def is_places(thing):
 
 
 def row_at(first, ring, place):
-    """The row at which the event at a place looks, None if there is no such look: first come those, then the ring for ever."""
+    """The row at which the event at a place looks, None if there is no such look."""
     if place < len(first):
         return looked_row(first[place])
     if len(ring) == 0:

@@ -2,7 +2,7 @@
 
 from wholewalks.alikes import contents_of
 from wholewalks.checks import is_between, is_dealing, is_tuple_of
-from wholewalks.contents import is_contents
+from wholewalks.contents import is_contents, least_content
 from wholewalks.errors import NoDealing
 from wholewalks.graphs import leads_within, strong_parts, trail_to
 from wholewalks.meeting import event_graph
@@ -77,7 +77,7 @@ def is_free(plan, thing):
 
 
 def stuck(plan, dealing):
-    """Two rows of one hand, and contents on which the plan looks at ever more letters of both; None for a free dealing."""
+    """Two rows of one hand, and contents on which the plan looks at ever more letters of both; None if it is free."""
     need_dealing(plan, dealing)
     labels, nexts = event_graph(plan)
     parts = strong_parts(nexts)
@@ -88,7 +88,7 @@ def stuck(plan, dealing):
     lead, ring = trail_round(labels, nexts, [number == part for number in parts], (one, other))
     heads = contents_of(plan, looks_of(labels, lead))
     rounds = contents_of(plan, looks_of(labels, ring))
-    return (one, other, tuple([(head[0], again[0]) for head, again in zip(heads, rounds)]))
+    return (one, other, tuple([least_content((head[0], again[0])) for head, again in zip(heads, rounds)]))
 
 
 def rows_of_one_hand(dealing, labels, nexts, parts):
@@ -105,7 +105,7 @@ def rows_of_one_hand(dealing, labels, nexts, parts):
 
 
 def trail_round(labels, nexts, within, rows):
-    """Steps from the first node to a part, and steps within it that come round and look at a letter of each of the rows."""
+    """Steps from the first node to a part, and steps round within it that look at a letter of each of the rows."""
     goals = nodes_that_look(labels, within, rows[0])
     lead, start = trail_to(nexts, 0, goals, [True] * len(nexts))
     ring = []

@@ -44,7 +44,8 @@ class BlockJudge:
     def lets_statement(self, hand, deep, around, thing):
         """Whether a thing is a statement that stands there."""
         if is_item("each", 4, thing):
-            return self.lets_row(hand, thing[1]) and is_box(thing[2]) and self.lets(hand, deep + 1, around + 1, thing[3])
+            return (self.lets_row(hand, thing[1]) and is_box(thing[2])
+                    and self.lets(hand, deep + 1, around + 1, thing[3]))
         if is_item("if", 5, thing):
             return (is_box(thing[1]) and is_value(thing[2]) and self.lets(hand, deep + 1, around, thing[3])
                     and self.lets(hand, deep + 1, around, thing[4]))

@@ -20,7 +20,7 @@ class States:
 
 
 def table_of(source):
-    """The table of all to which a source comes: its item(standing) tells what a state does, and numbers where it leads."""
+    """The table of all to which a source comes: item(standing) tells what a state does, and numbers where it leads."""
     table = []
     while len(table) < len(source.states.known):
         if len(source.states.known) > MOST_STANDINGS:

@@ -1,6 +1,6 @@
 """Contents on which programs, whoever made them, come to do otherwise than a plan."""
 
-from wholewalks.checks import MOST_EVENTS, is_same, is_tuple_of
+from wholewalks.checks import MOST_EVENTS, is_between, is_same, is_tuple_of
 from wholewalks.contents import is_contents
 from wholewalks.errors import Free, TooMany
 from wholewalks.leading import first_unlike, need_program_for
@@ -8,7 +8,7 @@ from wholewalks.pieces import stuck
 
 
 def broken(plan, program):
-    """Contents on which the plan looks at ever more letters of two rows of one hand, and the first unlike events there."""
+    """Contents on which the plan looks for ever at two rows of one hand, and the first unlike events there."""
     need_program_for(plan, program)
     found = stuck(plan, program.dealing)
     if found is None:
@@ -32,7 +32,7 @@ def is_broken(plan, program, thing):
 
 def tells_unlike(plan, program, thing, once):
     """Whether a thing is contents, and the first unlike events there, the program being led once or not."""
-    if not is_tuple_of(4, thing) or not is_contents(plan, thing[0]):
+    if not is_tuple_of(4, thing) or not is_contents(plan, thing[0]) or not is_between(0, MOST_EVENTS - 1, thing[1]):
         return False
-    found = first_unlike(plan, program, thing[0], MOST_EVENTS, once)
-    return found is not None and is_same(found[:1], thing[1:2]) and is_same(found[1], thing[2]) and is_same(found[2], thing[3])
+    found = first_unlike(plan, program, thing[0], thing[1] + 1, once)
+    return found is not None and found[0] == thing[1] and is_same(found[1], thing[2]) and is_same(found[2], thing[3])

@@ -166,19 +166,31 @@ def watch_over(walking):
     return Turn(walking)
 
 
+class Telling:
+    """Tells the events of a run one by one, from where it stands, up to the last one."""
+
+    def __init__(self, walking):
+        self.walking = walking
+        self.is_over = False
+
+    def event(self):
+        """The next event; there must be one more."""
+        watch = None
+        while True:
+            event = self.walking.deed()
+            if event is None and watch is None:
+                watch = watch_over(self.walking)
+            elif event is None and watch.is_round():
+                event = IDLE
+            if event is not None:
+                self.is_over = event[0] in ENDS
+                return event
+
+
 def led_events(walking, many):
     """The first so many events from where a run stands, all if they are fewer."""
+    telling = Telling(walking)
     found = []
-    watch = None
-    while len(found) < many:
-        event = walking.deed()
-        if event is None and watch is None:
-            watch = watch_over(walking)
-        elif event is None and watch.is_round():
-            event = IDLE
-        if event is not None:
-            watch = None
-            found.append(event)
-            if event[0] in ENDS:
-                break
+    while len(found) < many and not telling.is_over:
+        found.append(telling.event())
     return found
