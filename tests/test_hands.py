@@ -167,7 +167,11 @@ class NeedTest(unittest.TestCase):
         self.assertIs(is_need(RING, 3, ("case", (0,), (2,), apart, same)), False)
         self.assertIs(is_need(RING, 3, ("case", (0,), (2,), same, same)), False)
         self.assertIs(is_need(RING, 3, ("case", (0,), (2,), apart, apart)), False)
-        # Two joined groups, the same group twice, groups that are not there.
+        # Two joined groups, though both trees would do; the same group twice, groups that are not there.
+        self.assertIs(is_need(T, 1, ("case", (0,), (1,), ("all", ((0, 1),)), ("all", ((0,),)))), False)
+        self.assertIs(is_need(U, 1, ("case", (0,), (1,), ("all", ((0, 1),)), ("all", ((0,),)))), True)
+        self.assertIs(is_need(U, 1, ("case", (0,), (0,), ("all", ((0,),)), ("all", ((0,),)))), False)
+        self.assertIs(is_need(T, 2, ("case", (0,), (1,), ("all", ((0, 1), (0, 1))), ("all", ((0,), (1,))))), False)
         self.assertIs(is_need(RING, 3, ("case", (0,), (1,), same, apart)), False)
         self.assertIs(is_need(RING, 3, ("case", (0,), (0,), same, apart)), False)
         self.assertIs(is_need(RING, 3, ("case", (0,), (0, 2), same, apart)), False)

@@ -29,6 +29,11 @@ def looks_in_order(rows, letters, *order):
     return Plan(rows, letters, table + (STOP,)) if many else Plan(rows, letters, (STOP,))
 
 
+def rungs_in_order(rows, order):
+    """A plan that looks at rows in this order, at each to its next b."""
+    return Plan(rows, 2, tuple([("look", row, (at, at + 1, at + 1)) for at, row in enumerate(order)]) + (STOP,))
+
+
 class CrossesTest(unittest.TestCase):
 
     def test_e08(self):
@@ -171,6 +176,16 @@ class CrossingTest(unittest.TestCase):
         for thing in wrong + odd_things():
             self.assertIs(is_crossing(T, 0, 1, thing), False, thing)
 
+    def test_places_behind_what_comes_first(self):
+        # A word, then looks at both rows and a word for ever.
+        plan = Plan(2, 1, (("say", "x", 1), ("look", 0, (2, 4)), ("look", 1, (3, 4)), ("say", "y", 1), STOP))
+        for at in (0, 3000, 3 * 10 ** 38):
+            self.assertIs(is_crossing(plan, 0, 1, (D, (at + 1, at + 2, at + 4, at + 5))), True)
+            self.assertIs(is_crossing(plan, 0, 1, (D, (1, 2, at + 4, at + 5))), True)
+            self.assertIs(is_crossing(plan, 0, 1, (D, (1, 2, at + 5, at + 7))), False)
+            self.assertIs(is_crossing(plan, 0, 1, (D, (at, at + 1, at + 3, at + 4))), False)
+            self.assertIs(is_crossing(plan, 0, 1, (D, (at + 2, at + 3, at + 5, at + 6))), False)
+
     def test_rows_that_do_not_cross_there_though_looked_at_for_ever(self):
         # By an a of row 2 row 0 is followed for ever, by a b row 1; by its end both are looked at by turns.
         plan = Plan(3, 2, (("look", 2, (1, 2, 3)), ("look", 0, (1, 1, 5)), ("look", 1, (2, 2, 5)), ("look", 0, (4, 4, 5)),
@@ -215,9 +230,9 @@ class FewestOnceTest(unittest.TestCase):
         for number in range(200):
             rows = rng.randint(1, 5)
             plan = (random_plan(rng, rows), forward_plan(rng, rows, rng.randint(1, 3), rng.randint(2, 8)),
-                    ladder_plan(rng, (0,) * rows, 2, rng.randint(3, 9), False))[number % 3]
+                    rungs_in_order(rows, [rng.randrange(rows) for _ in range(rng.randint(4, 9))]))[number % 3]
             more += self.told(plan) > 0
-        self.assertGreater(more, 30)
+        self.assertGreater(more, 15)
 
 
 class MadeOnceTest(unittest.TestCase):
@@ -349,7 +364,7 @@ class BrokenOnceTest(unittest.TestCase):
         rng = seeded(107)
         met = 0
         for _ in range(60):
-            plan = ladder_plan(rng, (0, 0, 0), 2, rng.randint(4, 6), False)
+            plan = rungs_in_order(3, [rng.randrange(3) for _ in range(rng.randint(4, 7))])
             for dealing in naive.dealings(3):
                 pairs = naive.crossed_rows(plan)
                 if all(dealing[r] != dealing[s] for r, s in naive.joined_rows(plan)) and any(

@@ -82,7 +82,7 @@ class ScriptTest(unittest.TestCase):
                  ("if", 0, False, (), ()), ("if", 0, 0, ()), ("if", 0, 0, (), (), ()), ["if", 0, 0, (), ()], ("if", 0, 0, [], ()),
                  ("if", 0, 0, (), []), ("if", 0, 0, None, ()), ("if", 0, 0, (), None), ("if", 0, 0, STOP, ()),
                  ("if", 0, 0, (None,), ()), ("if", 0, 0, (), (("halt",),)), ("if", 0, 0, (("leave", 1),), ()), ("each", 1, 0, ()),
-                 ("each", 3, 0, ()), ("each", -1, 0, ()), ("each", False, 0, ()), ("each", 0, 4, ()), ("each", 0, True, ()),
+                 ("each", 3, 0, ()), ("each", 4, 0, ()), ("each", -1, 0, ()), ("each", False, 0, ()), ("each", 0, 4, ()), ("each", 0, True, ()),
                  ("each", 0, 0, []), ("each", 0, 0, None), ("each", 0, 0), ("each", 0, 0, (), ()), ["each", 0, 0, ()],
                  ("each", 0, 0, STOP), ("each", 0, 0, ([],)), ("each", 10 ** 39, 0, ()), ("each", "0", 0, ()), ("leave", 1),
                  ("leave", 0), ("each", 0, 0, (("leave", 2),)), ("each", 0, 0, (("leave", 0),)), ("each", 0, 0, (("leave", -1),)),

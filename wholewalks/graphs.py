@@ -72,24 +72,22 @@ def leads_within(nexts, parts, node):
     return False
 
 
-def trail_to(nexts, start, goals, within):
-    """The shortest trail from a node to a goal through nodes within: its steps, pairs (node, way), and its last node.
+def trail_to(nexts, start, goals):
+    """The shortest trail from a node to a goal, which it leads to: its steps, pairs (node, way), and the goal.
 
-    goals and within have a flag for each node. None if there is no trail.
+    goals has a flag for each node.
     """
     back = {start: None}
     queue = [start]
     at = 0
-    while at < len(queue):
+    while not goals[queue[at]]:
         node = queue[at]
-        if goals[node]:
-            return (steps_back(back, node), node)
         for way, target in enumerate(nexts[node]):
-            if within[target] and target not in back:
+            if target not in back:
                 back[target] = (node, way)
                 queue.append(target)
         at += 1
-    return None
+    return (steps_back(back, queue[at]), queue[at])
 
 
 def steps_back(back, node):

@@ -147,10 +147,10 @@ def broken_once(plan, program):
     look at the one again the hand must have left the other, or never come to the one.
     """
     need_program_for(plan, program)
-    for one, other in crosses(plan):
-        if program.dealing[one] == program.dealing[other]:
-            return with_first_unlike(plan, program, crossing(plan, one, other)[0], True)
-    raise Free()
+    pairs = [(one, other) for one, other in crosses(plan) if program.dealing[one] == program.dealing[other]]
+    if not pairs:
+        raise Free()
+    return with_first_unlike(plan, program, crossing(plan, pairs[0][0], pairs[0][1])[0], True)
 
 
 def is_broken_once(plan, program, thing):

@@ -81,7 +81,7 @@ def stuck(plan, dealing):
     need_dealing(plan, dealing)
     labels, nexts = event_graph(plan)
     parts = strong_parts(nexts)
-    found = rows_of_one_hand(dealing, labels, nexts, parts)
+    found = rows_of_one_hand(dealing, labels, parts)
     if found is None:
         return None
     one, other, part = found
@@ -91,14 +91,13 @@ def stuck(plan, dealing):
     return (one, other, tuple([least_content((head[0], again[0])) for head, again in zip(heads, rounds)]))
 
 
-def rows_of_one_hand(dealing, labels, nexts, parts):
-    """Two rows of one hand at which one part looks again and again, and this part: (one, other, part), or None."""
+def rows_of_one_hand(dealing, labels, parts):
+    """Two rows of one hand at which one part looks, so again and again, and this part: (one, other, part), or None."""
     firsts = {}
     for node, label in enumerate(labels):
-        if label[0] == "look" and leads_within(nexts, parts, node):
+        if label[0] == "look":
             row = label[1]
-            place = (parts[node], dealing[row])
-            first = firsts.setdefault(place, row)
+            first = firsts.setdefault((parts[node], dealing[row]), row)
             if first != row:
                 return (min(first, row), max(first, row), parts[node])
     return None
@@ -106,18 +105,17 @@ def rows_of_one_hand(dealing, labels, nexts, parts):
 
 def trail_round(labels, nexts, within, rows):
     """Steps from the first node to a part, and steps round within it that look at a letter of each of the rows."""
-    goals = nodes_that_look(labels, within, rows[0])
-    lead, start = trail_to(nexts, 0, goals, [True] * len(nexts))
+    lead, start = trail_to(nexts, 0, nodes_that_look(labels, within, rows[0]))
     ring = []
     node = start
     for row in rows:
-        more, node = trail_to(nexts, node, nodes_that_look(labels, within, row), within)
+        more, node = trail_to(nexts, node, nodes_that_look(labels, within, row))
         ring.extend(more)
         # No end leads back, so this is a letter.
         way = [within[target] for target in nexts[node]].index(True)
         ring.append((node, way))
         node = nexts[node][way]
-    more, _ = trail_to(nexts, node, [at == start for at in range(len(nexts))], within)
+    more, _ = trail_to(nexts, node, [at == start for at in range(len(nexts))])
     return (lead, ring + more)
 
 
