@@ -28,11 +28,17 @@ INTERFACE = {
     "making": "made",
     "strangers": "broken is_broken",
     "once": ("crosses crossing is_crossing fewest_once least_once made_once broken_once is_broken_once"),
+    "late": "late_hands late_paper is_late_paper",
+    "questions": "Question answer",
+    "sorts": "parted sorts_many some_sorts least_word",
+    "sorters": "sorted_by sorter is_sorter",
+    "partings": "finest boxes is_answered is_boxes",
 }
 OF_CLASSES = {
     "Plan": "__init__ __eq__",
     "Program": "__init__ __eq__",
     "Script": "__init__ __eq__",
+    "Question": "__init__ __eq__",
     "Run": "__init__ deed standing walks looked deeds back copy",
 }
 BUILTINS = set("len range enumerate zip min max sum abs sorted reversed int str bool list tuple dict set isinstance ord repr "
