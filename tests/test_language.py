@@ -33,12 +33,19 @@ INTERFACE = {
     "sorts": "parted sorts_many some_sorts least_word",
     "sorters": "sorted_by sorter is_sorter",
     "partings": "finest boxes is_answered is_boxes",
+    "answering": "said answering wrong_words",
+    "bench": "Bench",
+    "texts": "content_text plan_text program_text question_text",
+    "reading": "read_content read_plan read_program read_question",
+    "desk": "Desk",
 }
 OF_CLASSES = {
     "Plan": "__init__ __eq__",
     "Program": "__init__ __eq__",
     "Script": "__init__ __eq__",
     "Question": "__init__ __eq__",
+    "Bench": "__init__ turn put exchange row plan web fewest crosses dealt deal joined back changes trying copy",
+    "Desk": "__init__ tell undoable",
     "Run": "__init__ deed standing walks looked deeds back copy",
 }
 BUILTINS = set("len range enumerate zip min max sum abs sorted reversed int str bool list tuple dict set isinstance ord repr "
@@ -49,7 +56,7 @@ BARRED = ("typing typing_extensions enum Enum IntEnum StrEnum Flag IntFlag Gener
           "TypedDict TYPE_CHECKING abstractmethod register mro elements open input law version_info with_traceback "
           "add_note attrgetter breakpoint builtins compile copyright credits delattr dir eval exec exit gc getattr globals "
           "hasattr help id importlib license locals methodcaller os quit setattr vars sys").split()
-NOT_USED = (ast.AsyncFunctionDef, ast.Global, ast.With, ast.Try, ast.GeneratorExp, ast.Yield, ast.YieldFrom, ast.Lambda,
+NOT_USED = (ast.AsyncFunctionDef, ast.Global, ast.With, ast.ExceptHandler, ast.GeneratorExp, ast.Yield, ast.YieldFrom, ast.Lambda,
             ast.Set, ast.SetComp, ast.Match, ast.NamedExpr, ast.Import, ast.Assert, ast.Delete, ast.Div, ast.AnnAssign,
             ast.JoinedStr, ast.Starred, ast.Nonlocal)
 AT_ONCE = ("range", "zip", "enumerate", "reversed")
@@ -193,6 +200,14 @@ class LanguageTest(unittest.TestCase):
     def test_what_is_not_used(self):
         for _, node, where in self.each(NOT_USED):
             self.fail(f"{where}: {type(node).__name__}")
+
+    def test_what_a_finally_does(self):
+        for source, node, where in self.each(ast.Try):
+            self.assertEqual((len(node.body), node.orelse), (1, []), where)
+            for inner in node.finalbody:
+                self.assertIsInstance(inner, ast.Assign, where)
+                self.assertIsInstance(inner.targets[0], ast.Attribute, where)
+                self.assertIsInstance(inner.value, ast.Name, where)
 
     def test_names(self):
         known = set(dir(builtins))

@@ -57,12 +57,9 @@ class LateGame:
         if not is_tuple_of(2, thing) or not is_tuple_of(2, thing[0]) or not self.is_held(thing[1]):
             return None
         standing, ended = thing[0]
-        if not is_between(0, len(self.plan.table) - 1, standing) or not is_ascending(self.plan.rows, ended):
+        if not is_ascending(self.plan.rows, ended) or (standing, mask_of(ended)) not in self.known:
             return None
-        phase = (standing, mask_of(ended))
-        if phase not in self.known:
-            return None
-        return (phase, thing[1])
+        return ((standing, mask_of(ended)), thing[1])
 
     def is_held(self, thing):
         """Whether a thing is an ascending tuple of pairs of a row and its hand, each row once."""

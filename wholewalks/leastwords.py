@@ -16,7 +16,7 @@ class LeastWords:
         self.halves = halves
         self.rests = Rests(halves)
         self.least = (sum([len(word) for word in words]), words)
-        target = self.rests.of(halves.ones.numbers(words))
+        target = self.rests.of_words(words)
         self.first = (0, (((0, 0), target),))
         self.fewest = {}
 

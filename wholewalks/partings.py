@@ -13,24 +13,29 @@ from wholewalks.sortings import MOST_PROFILES, Sorting, words_of_numbers
 MOST_KEYS = 100000
 
 
-def has_few_sorts(question, lot):
-    """Whether a lot has finitely many sorts.
+def has_few_sorts(question, lot, most):
+    """Whether a lot has finitely many sorts; so many profiles may be needed at most.
 
     The other rows have just then, too, so the fewer of both are asked.
     """
     others = tuple([row for row in range(question.rows) if row not in lot])
     if len(others) < len(lot):
         lot = others
-    return Profiles(Halves(question, lot), MOST_PROFILES).far is None
+    return Profiles(Halves(question, lot), most).far is None
 
 
 def finest(question):
     """The finest parting of the rows: all lots with finitely many sorts are some of its parts put together."""
+    return finest_within(question, MOST_PROFILES)
+
+
+def finest_within(question, most):
+    """The same, if no more than so many profiles of a lot are needed."""
     parts = [tuple(range(question.rows))]
     for mask in range(1, full_mask(question.rows), 2):
         lot = rows_of(mask)
         cut = parts_cut(parts, lot)
-        if len(cut) > len(parts) and has_few_sorts(question, lot):
+        if len(cut) > len(parts) and has_few_sorts(question, lot, most):
             parts = cut
     return tuple(sorted(parts))
 
@@ -62,7 +67,7 @@ def is_answered(question, thing):
     if not is_parting(question, thing):
         return False
     for part in thing:
-        if is_lot(question, part) and not has_few_sorts(question, part):
+        if is_lot(question, part) and not has_few_sorts(question, part, MOST_PROFILES):
             return False
     return True
 

@@ -3,7 +3,7 @@
 from wholewalks.checks import is_between, is_lettered, is_tuple_of
 from wholewalks.errors import BadQuestion, NoLot, NoWords
 from wholewalks.plans import is_ascending
-from wholewalks.readings import Readings, many_readings
+from wholewalks.readings import many_readings, readings_of
 from wholewalks.standings import is_table
 
 FEWEST_ROWS = 2
@@ -83,6 +83,6 @@ def answer(question, words):
     """The flag of the standing to which words of all rows lead."""
     need_words(question, question.rows, words)
     standing = 0
-    for number in Readings(question.rows, question.letters).numbers(words):
+    for number in readings_of(question.letters, words):
         standing = question.table[standing][1][number - 1]
     return question.table[standing][0]

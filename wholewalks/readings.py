@@ -7,6 +7,21 @@ letter. Reading 0 is none, as all rows have ended; it is numbered along.
 from wholewalks.checks import LETTERS
 
 
+def readings_of(letters, words):
+    """The readings that words of so many letters have side by side."""
+    return [reading_at(letters, words, place) for place in range(max([len(word) for word in words]))]
+
+
+def reading_at(letters, words, place):
+    """The reading that words have at a place."""
+    number = 0
+    for word in words:
+        number *= letters + 1
+        if place < len(word):
+            number += 1 + LETTERS.index(word[place])
+    return number
+
+
 def many_readings(rows, letters):
     """How many readings there are, less reading 0."""
     return len(Readings(rows, letters).figures) - 1
@@ -22,19 +37,6 @@ class Readings:
         for _ in range(rows):
             self.figures = [some + (figure,) for some in self.figures for figure in range(letters + 1)]
         self.ended = [sum([1 << row for row in range(rows) if some[row] == 0]) for some in self.figures]
-
-    def numbers(self, words):
-        """The readings that words have side by side."""
-        return [self.number_at(words, place) for place in range(max([len(word) for word in words]))]
-
-    def number_at(self, words, place):
-        """The reading that words have at a place."""
-        number = 0
-        for word in words:
-            number *= self.letters + 1
-            if place < len(word):
-                number += 1 + LETTERS.index(word[place])
-        return number
 
     def words(self, numbers):
         """The words that have these readings."""

@@ -6,6 +6,7 @@ Rests are numbered, so that two have one number if and only if all answers are t
 """
 
 from wholewalks.classes import classes_of
+from wholewalks.readings import readings_of
 
 
 class Rests:
@@ -67,10 +68,10 @@ class Rests:
         """The rest that is left when the others have all ended."""
         return self.number((flag, (None,) * (len(self.halves.others.ended) - 1)))
 
-    def of(self, ones):
-        """The rest that is left from the first standing on when the lot has these readings."""
+    def of_words(self, words):
+        """The rest that words of the lot leave."""
         rests = self.tails
-        for one in ones[::-1]:
+        for one in readings_of(self.halves.ones.letters, words)[::-1]:
             rests = self.before(one, rests)
         return rests[0, 0]
 

@@ -5,7 +5,7 @@ from wholewalks.errors import NoSorter
 from wholewalks.halves import Halves
 from wholewalks.profiles import Profiles
 from wholewalks.questions import is_way, need_lot, need_words
-from wholewalks.readings import Readings, many_readings
+from wholewalks.readings import many_readings, readings_of
 from wholewalks.sortings import MOST_PROFILES, Sorting, words_of_numbers
 
 
@@ -34,7 +34,7 @@ def sorted_by(question, lot, sorter, words):
     need_words(question, len(lot), words)
     nexts, numbers = sorter
     standing = 0
-    for reading in Readings(len(lot), question.letters).numbers(words):
+    for reading in readings_of(question.letters, words):
         standing = nexts[standing][reading - 1]
     return numbers[standing]
 

@@ -19,8 +19,8 @@ def parted(question, lot, first, second):
     need_words(question, len(lot), second)
     halves = Halves(question, lot)
     rests = Rests(halves)
-    one = rests.of(halves.ones.numbers(first))
-    other = rests.of(halves.ones.numbers(second))
+    one = rests.of_words(first)
+    other = rests.of_words(second)
     readings = rests.parting(one, other)
     if readings is None:
         return None
