@@ -113,6 +113,21 @@ class LatePaperTest(unittest.TestCase):
         self.assertEqual((kind, len(table)), ("dealt", 2))
         self.assertEqual(late_paper(Plan(1, 1, (STOP,)), 1), ("dealt", {}))
 
+    def test_states_that_are_spoilt_by_a_step(self):
+        # Both rows are dealt ahead of the piece; the step into it is what spoils the state.
+        plan = Plan(2, 1, (("look", 0, (1, 4)), ("look", 1, (2, 4)), ("look", 0, (3, 4)), ("look", 1, (2, 4)), STOP))
+        self.assertEqual(self.right(plan, 1), "lost")
+        self.assertEqual(late_paper(plan, 1)[1][(2, ()), ((0, 0), (1, 0))], 0)
+        self.assertEqual(self.right(plan, 2), "dealt")
+        self.assertIs(is_late_paper(plan, 2, ("dealt", {FIRST_HELD: 0, ((1, ()), ((0, 0),)): 0})), False)
+        # Three rows of which two are dealt to one of two hands, whatever is done.
+        table = tuple([("look", row, (row + 1, 9)) for row in range(3)])
+        table += tuple([("look", row, (3 + (row + 1) % 3, 9)) for row in range(3)]) + (STOP,) * 4
+        plan = Plan(3, 1, table)
+        for hands in (1, 2, 3, 4):
+            self.assertEqual(self.right(plan, hands), "lost" if hands < 3 else "dealt")
+        self.assertIn(0, late_paper(plan, 2)[1].values())
+
     def test_each_number_of_hands(self):
         for plan, most in [(CHOICE, 4), (T, 6), (U, 3), (choosing_plan([(1, 2, 3), (3, 4), (4, 1), (4, 2)], 5, 2), 4)]:
             for hands in range(1, most + 1):
@@ -288,6 +303,11 @@ class IsLatePaperTest(unittest.TestCase):
                                      (table, "dealt"), ("dealt", list(table.items())), ("dealt", tuple(table.items())), (b"dealt", table),
                                      (None, table), (("dealt",), table), ("dealt", None), ("lost", None), ("lost", {})]:
             self.assertIs(is_late_paper(T, 2, thing), False)
+        lost = late_paper(T, 1)[1]
+        for word in ("Lost", "lost ", "", "dealt", None, b"lost", 0, ("lost",)):
+            self.assertIs(is_late_paper(T, 1, (word, lost)), False)
+        self.assertIs(is_late_paper(T, 1, ["lost", lost]), False)
+        self.assertIs(is_late_paper(T, 1, ("lost", lost, 0)), False)
         for thing in odd_things():
             self.assertIs(is_late_paper(T, 2, ("dealt", thing)), False)
             self.assertIs(is_late_paper(T, 2, ("lost", thing)), False)

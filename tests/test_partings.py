@@ -32,6 +32,16 @@ def agreeing(rows, many):
     return question_of(rows, 2, 0, step, lambda state: state != "no")
 
 
+def in_pairs(many):
+    """Whether the first so many letters of rows 0 and 2 are the same, and those of rows 1 and 3."""
+    def step(state, reading):
+        if state in ("no", many):
+            return state
+        return state + 1 if reading[:2] == reading[2:] else "no"
+
+    return question_of(4, 2, 0, step, lambda state: state != "no")
+
+
 def all_partings(rows):
     """All partings of so many rows."""
     found = [[]]
@@ -56,6 +66,16 @@ class FinestTest(unittest.TestCase):
         self.assertEqual(finest(APART), ((0, 2), (1,)))
         self.assertEqual(finest(TWO), ((0, 3), (1, 2)))
         self.assertEqual(finest(EACH), ((0,), (1,), (2,)))
+
+    def test_lots_of_two_rows_are_asked_only_if_need_be(self):
+        # There are 127 sorts of each row, and more than 3000 of rows 0 and 1.
+        question = in_pairs(6)
+        self.assertEqual(finest(question), ((0,), (1,), (2,), (3,)))
+        self.assertIs(is_answered(question, ((0,), (1,), (2,), (3,))), True)
+        with self.assertRaises(TooMany) as caught:
+            is_answered(question, ((0, 1), (2, 3)))
+        self.assertEqual(caught.exception.most, 3000)
+        self.assertIs(is_answered(question, ((0, 1), (2, 2))), False)
 
     def test_lots_are_its_parts_put_together(self):
         rng = seeded(140)
@@ -182,6 +202,8 @@ class IsBoxesTest(unittest.TestCase):
         self.assertIs(is_boxes(EACH, (((0,), (1, 2)), (single, wide), table)), True)
         self.assertIs(is_boxes(EACH, (((0,), (1,), (2,)), (single,) * 3, boxes(EACH)[2])), True)
         self.assertIs(is_boxes(EACH, (((0, 1, 2),), (single,), {(0,): False, (1,): True})), False)
+        # A parting of one part is no such one, though its sorter tells the answers.
+        self.assertIs(is_boxes(SAME, (((0, 1),), ((((0, 0, 0),), (0,)),), {(0,): True})), False)
         # One number for what is of unlike sorts.
         self.assertIs(is_boxes(EACH, (((0, 1), (2,)), ((wide[0], (0, 0, 1, 1)), single), table)), False)
 

@@ -6,7 +6,7 @@ from tests.asking import (LETTERS, Q, all_words, lots, machine_number, question_
                           sorted_question, strings)
 from tests.test_sorts import BAD_LOTS, EQUAL, EQUAL4, EVEN, FIRST, SAME, asked
 from tests.things import P, odd_things, seeded
-from wholewalks.errors import NoLot, NoSorter, NoWords
+from wholewalks.errors import NoLot, NoSorter, NoWords, TooMany
 from wholewalks.questions import Question
 from wholewalks.sorters import is_sorter, sorted_by, sorter
 from wholewalks.sorts import parted, sorts_many
@@ -130,6 +130,15 @@ class SorterTest(unittest.TestCase):
             machine = self.right(question, lot)
             met[machine and max(machine[1])] = True
         self.assertGreater(len(met), 4)
+
+    def test_too_many(self):
+        question = question_of(4, 2, 0, lambda state, reading: state if state in (6, 7) else (
+            state + 1 if reading[:2] == reading[2:] else 7), lambda state: state != 7)
+        with self.assertRaises(TooMany) as caught:
+            sorter(question, (0, 1))
+        self.assertEqual(caught.exception.most, 3000)
+        # What is judged is never too much.
+        self.assertIs(is_sorter(question, (0, 1), (((0,) * 8,), (0,))), False)
 
     def test_of_four_rows_by_chance(self):
         rng = seeded(132)

@@ -183,6 +183,21 @@ class SortsManyTest(unittest.TestCase):
         with self.assertRaises(NoLot):
             sorts_many(EQUAL4, (2, 1))
 
+    def test_too_many(self):
+        # Of rows 0 and 1 there are 127 * 127 sorts; some of them can be told before that is known.
+        question = question_of(4, 2, 0, lambda state, reading: state if state in (6, 7) else (
+            state + 1 if reading[:2] == reading[2:] else 7), lambda state: state != 7)
+        for lot in [(0, 1), (2, 3)]:
+            for call in (lambda: sorts_many(question, lot), lambda: some_sorts(question, lot, 40)):
+                with self.assertRaises(TooMany) as caught:
+                    call()
+                self.assertEqual(caught.exception.most, 3000)
+            with self.assertRaises(NoNumber):
+                some_sorts(question, lot, 41)
+        self.assertEqual(sorts_many(question, (0,)), 127)
+        self.assertEqual(least_word(question, (0, 1), ("abaaba", "abba")), ("abaaba", "abba"))
+        self.assertEqual(least_word(question, (0, 1), ("abaabab", "abba")), ("abaaba", "abba"))
+
     def test_too_many_has_its_bound(self):
         rng = seeded(123)
         for _ in range(30):

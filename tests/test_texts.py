@@ -117,7 +117,7 @@ class BadTextsTest(unittest.TestCase):
     def test_contents(self):
         for text in ["", " ", "a ", " a", "-a", "a-", "--", "()", "a()", "(", ")", "a(", "a)", "(a", "a)b", "a(b)c", "a(b)(c)", "((a))", "a(b))",
                      "a((b)", ")a(", "d", "a(d)", "d(a)", "A", "end", "a\n", "\n", "a(b)\n", "a b", "a( )", "-(a)", "(-)", "a|b", "\ta", "1",
-                     "(a)(b)", "a(b c)"]:
+                     "(a)(b)", "a(b c)", "a(bc", "(ab", "a(b]", "(ab|"]:
             self.bad(read_content, text, 1)
 
     def test_lacking_and_behind(self):
@@ -177,7 +177,7 @@ class BadTextsTest(unittest.TestCase):
     def test_each_kind_of_line_of_a_program(self):
         heads = ["program", "program 2 1 0,1", "program 2 1 0,1 1 1", "program 2 1 0 , 1 1", "program 2 1 0,1 None", "program 2 1 0,1 ",
                  "program 2 1 0, 1", "program 2 1 ,0 1", "program 2 1 0,,1 1", "program 2 1 none 1", "program none 1 0,1 1", "program 2 1 , 1",
-                 " program 2 1 0,1 1", "program 2 1 0,1 1 ", "program 2 1 0,01 1", "program 2 1 0;1 1", "plan 2 1", "program 2 1  1"]
+                 " program 2 1 0,1 1", "program 2 1 0,1 1 ", "program 2 1 0,01 1", "program 2 1 0;1 1", "plan 2 1", "program 2 1  1", "plan 2 1 0,1 1", "Program 2 1 0,1 1"]
         heads += ["program 2 1 0,1 " + number for number in NO_NUMBERS if number != "none"]
         heads += ["program 2 1 0," + number + " 1" for number in NO_NUMBERS]
         heads += ["program " + number + " 1 0,1 1" for number in NO_NUMBERS] + ["program 2 " + number + " 0,1 1" for number in NO_NUMBERS]

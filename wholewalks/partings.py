@@ -3,10 +3,9 @@
 from wholewalks.checks import is_tuple_of
 from wholewalks.errors import TooMany
 from wholewalks.halves import Halves
-from wholewalks.phasing import full_mask, rows_of
 from wholewalks.plans import is_ascending
 from wholewalks.profiles import Profiles
-from wholewalks.questions import answer, is_lot
+from wholewalks.questions import MOST_ROWS, answer, is_lot
 from wholewalks.sorters import is_machine
 from wholewalks.sortings import MOST_PROFILES, Sorting, words_of_numbers
 
@@ -32,12 +31,19 @@ def finest(question):
 def finest_within(question, most):
     """The same, if no more than so many profiles of a lot are needed."""
     parts = [tuple(range(question.rows))]
-    for mask in range(1, full_mask(question.rows), 2):
-        lot = rows_of(mask)
+    for lot in small_lots(question.rows):
         cut = parts_cut(parts, lot)
         if len(cut) > len(parts) and has_few_sorts(question, lot, most):
             parts = cut
     return tuple(sorted(parts))
+
+
+def small_lots(rows):
+    """Lots one of which, or the others of one, is each lot, those of one row first: they need fewer profiles."""
+    lots = [(row,) for row in range(rows)]
+    if rows == MOST_ROWS:
+        lots.extend([(0, row) for row in range(1, rows)])
+    return lots
 
 
 def parts_cut(parts, lot):
